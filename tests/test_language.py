@@ -27,6 +27,9 @@ NO_NAMES = set(
     "attrgetter breakpoint builtins compile copyright credits delattr dir eval exec exit gc getattr globals hasattr"
     " help id importlib license locals methodcaller os quit setattr super type vars sys".split()
 )
+ITERATED = set("zip enumerate reversed range".split())
+ITERATED_METHODS = set("items keys values".split())
+ITERATING = set("list tuple dict sorted sum any all enumerate zip min max".split())
 STATEMENTS = (
     ast.Assign, ast.AugAssign, ast.If, ast.While, ast.For, ast.Return, ast.Break, ast.Continue, ast.Pass, ast.Raise,
     ast.Assert, ast.Delete, ast.Nonlocal, ast.Match, ast.With, ast.Try, ast.Expr, ast.FunctionDef, ast.ClassDef,
@@ -48,6 +51,21 @@ def nodes(kinds):
             if isinstance(node, kinds):
                 found.append((f"{name}:{getattr(node, 'lineno', 0)}", node))
     return found
+
+
+def placed_nodes(kinds):
+    """Each node of these kinds in the package, with its place and with the node in which it stands."""
+    found = []
+    for place, outer in nodes(ast.AST):
+        found += [(place, node, outer) for node in ast.iter_child_nodes(outer) if isinstance(node, kinds)]
+    return found
+
+
+def called_name(node):
+    """The name of the function or method that is called, None if the node is no call."""
+    if not isinstance(node, ast.Call):
+        return None
+    return node.func.id if isinstance(node.func, ast.Name) else node.func.attr
 
 
 def bound_names():
@@ -112,6 +130,31 @@ class Files(unittest.TestCase):
                         self.assertGreater(len(re.findall(rf"\b{alias.name}\b", text)), 1, f"{name}: {alias.name}")
 
 
+    def test_no_two_files_import_from_each_other(self):
+        found = {
+            name[:-3]: [
+                entry.module.split(".")[1] for entry in ast.parse(text).body if isinstance(entry, ast.ImportFrom)
+            ]
+            for name, text in sources().items()
+        }
+        while found:
+            ready = [name for name in found if not set(found[name]) & set(found)]
+            self.assertNotEqual([], ready, f"these import from each other: {list(found)}")
+            found = {name: found[name] for name in found if name not in ready}
+
+    def test_names_are_bound_once(self):
+        for name, text in sources().items():
+            bound = []
+            for entry in ast.parse(text).body:
+                if isinstance(entry, ast.ImportFrom):
+                    bound += [alias.name for alias in entry.names]
+                elif isinstance(entry, ast.Assign):
+                    bound.append(entry.targets[0].id)
+                elif isinstance(entry, (ast.FunctionDef, ast.ClassDef)):
+                    bound.append(entry.name)
+            self.assertEqual(len(set(bound)), len(bound), name)
+
+
 class Statements(unittest.TestCase):
     def test_kinds(self):
         for place, node in nodes(ast.stmt):
@@ -150,6 +193,34 @@ class Statements(unittest.TestCase):
             for sign, right in zip(node.ops, node.comparators):
                 if isinstance(sign, (ast.Is, ast.IsNot)):
                     self.assertIn(ast.unparse(right), ("None", "True", "False"), place)
+
+
+class Values(unittest.TestCase):
+    def test_exponents_are_small_and_written_out(self):
+        for place, node in nodes(ast.BinOp):
+            if isinstance(node.op, ast.Pow):
+                self.assertIsInstance(node.right, ast.Constant, place)
+                self.assertIn(node.right.value, range(65), place)
+
+    def test_sets_are_sorted_or_counted_on_the_spot(self):
+        sets = [row for row in placed_nodes((ast.Set, ast.SetComp, ast.Call)) if called_name(row[1]) in (None, "set")]
+        for place, node, outer in sets:
+            self.assertIn(called_name(outer), ("sorted", "len"), place)
+            self.assertEqual([], outer.keywords, place)
+
+    def test_what_is_iterated_at_once(self):
+        for place, node, outer in placed_nodes(ast.Call):
+            is_method = isinstance(node.func, ast.Attribute)
+            if called_name(node) in (ITERATED_METHODS if is_method else ITERATED):
+                iterates = isinstance(outer, (ast.For, ast.comprehension)) and outer.iter == node
+                self.assertTrue(iterates or called_name(outer) in ITERATING, place)
+
+    def test_keywords_of_builtins(self):
+        allowed = {"sorted": {"key", "reverse"}, "min": {"key", "default"}, "max": {"key", "default"}}
+        for place, node in nodes(ast.Call):
+            if called_name(node) in BUILTINS and isinstance(node.func, ast.Name):
+                for keyword in node.keywords:
+                    self.assertIn(keyword.arg, allowed.get(node.func.id, ()), place)
 
 
 class Names(unittest.TestCase):

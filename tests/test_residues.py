@@ -4,7 +4,8 @@ import inspect
 import random
 import unittest
 
-from tests.samples import check_raises, no_integers, random_walk, random_webs
+from tests.oracles import plain_sum
+from tests.samples import check_raises, no_integers, random_gains, random_walk, random_webs
 from turnedties.errors import InvalidAmount, InvalidGains, InvalidWalk
 from turnedties.residues import is_gains, is_potential, residue, size_of, walk_sum
 from turnedties.webs import Web, ends_of
@@ -15,20 +16,6 @@ MODULI = [0] + list(range(2, 61))
 
 def ring(modulus):
     return Web(3, [(0, 1), (1, 2), (2, 0)], modulus=modulus)
-
-
-def random_gains(source, web):
-    if web.modulus() == 0:
-        return [source.randint(-10 ** 30, 10 ** 30) for edge in web.edges()]
-    return [source.randrange(web.modulus()) for edge in web.edges()]
-
-
-def plain_sum(web, gains, walk):
-    """The sum of a walk, step by step."""
-    total = 0
-    for number, way in walk:
-        total = total + gains[number] if way == 1 else total - gains[number]
-    return total if web.modulus() == 0 else total % web.modulus()
 
 
 class Examples(unittest.TestCase):

@@ -9,3 +9,12 @@ def is_integer(thing):
 def is_between(thing, low, high):
     """Whether thing is an integer from low to high."""
     return is_integer(thing) and low <= thing <= high
+
+
+def are_different(thing, count):
+    """Whether thing is a list or tuple of different integers from 0 to count - 1."""
+    if not isinstance(thing, (list, tuple)) or len(thing) > count:
+        return False
+    if not all([is_between(entry, 0, count - 1) for entry in thing]):
+        return False
+    return len(set(thing)) == len(thing)
