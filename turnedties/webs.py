@@ -129,17 +129,22 @@ def ties_of(size, pairs, numbers):
     return ties
 
 
-def way_along(ties, start, finish):
-    """The steps from start to finish, None if there are none; the ties contain no cycle."""
+def ways_from(ties, start):
+    """The steps from start to each node that the ties connect with it, as few as possible."""
     ways = {start: []}
     waiting = [start]
     while waiting:
-        node = waiting.pop()
+        node = waiting.pop(0)
         for step, other in ties[node]:
             if other not in ways:
                 ways[other] = ways[node] + [step]
                 waiting.append(other)
-    return ways.get(finish)
+    return ways
+
+
+def way_along(ties, start, finish):
+    """The steps from start to finish, None if there are none; the ties contain no cycle."""
+    return ways_from(ties, start).get(finish)
 
 
 def is_step(web, thing):
