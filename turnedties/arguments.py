@@ -1,7 +1,7 @@
 """Checks of the arguments that many functions take: each raises what is wrong with its argument."""
 
-from turnedties.checks import are_different, is_integer
-from turnedties.errors import InvalidFixed, InvalidGains, InvalidPotential, InvalidWeights
+from turnedties.checks import are_different, is_between, is_integer
+from turnedties.errors import InvalidFixed, InvalidGains, InvalidNode, InvalidPotential, InvalidWeights
 from turnedties.residues import is_gains, is_potential
 
 
@@ -21,6 +21,12 @@ def check_potential(web, potential):
     """Raise InvalidPotential unless potential is a potential of the web."""
     if not is_potential(web, potential):
         raise InvalidPotential(potential)
+
+
+def check_node(web, node):
+    """Raise InvalidNode unless node is a node of the web."""
+    if not is_between(node, 0, web.size() - 1):
+        raise InvalidNode(node)
 
 
 def check_fixed(web, fixed):

@@ -11,6 +11,14 @@ def is_between(thing, low, high):
     return is_integer(thing) and low <= thing <= high
 
 
+def is_worded(thing, count):
+    """Whether thing is a tuple of that many entries, the first of them a text."""
+    if not isinstance(thing, tuple) or len(thing) != count:
+        return False
+    # Only a text is asked which word it is: an object may refuse to be compared.
+    return isinstance(thing[0], str)
+
+
 def are_different(thing, count):
     """Whether thing is a list or tuple of different integers from 0 to count - 1."""
     if not isinstance(thing, (list, tuple)) or len(thing) > count:

@@ -1,6 +1,7 @@
 """Which gains can be switched to which, with walks that show where they cannot."""
 
 from turnedties.arguments import check_change, check_fixed, check_gains
+from turnedties.checks import is_worded
 from turnedties.residues import is_potential, residue, walk_sum
 from turnedties.webs import ends_of, is_closed, is_walk
 
@@ -73,12 +74,9 @@ def is_transform(web, before, after, thing, *, fixed=()):
 
 def is_certificate(web, changes, thing, fixed):
     """Whether thing is a potential that makes the changes, a dict from edges, or a walk that excludes them."""
-    if not isinstance(thing, tuple) or len(thing) != 2:
+    if not is_worded(thing, 2):
         return False
     word, found = thing
-    # Only a text is asked whether it is one of the words: an object may refuse to be compared.
-    if not isinstance(word, str):
-        return False
     if word == "potential":
         return is_potential(web, found) and makes_all(web, changes, found, fixed)
     if word == "cycle":

@@ -1,16 +1,15 @@
 """Switching nodes, one by one and all at once by a potential."""
 
-from turnedties.arguments import check_gains, check_potential
+from turnedties.arguments import check_gains, check_node, check_potential
 from turnedties.checks import is_between, is_integer
-from turnedties.errors import InvalidAmount, InvalidNode, InvalidSwitch
+from turnedties.errors import InvalidAmount, InvalidSwitch
 from turnedties.residues import residue
 
 
 def switch(web, gains, node, amount):
     """The gains after switching the node by the amount."""
     check_gains(web, gains)
-    if not is_between(node, 0, web.size() - 1):
-        raise InvalidNode(node)
+    check_node(web, node)
     if not is_integer(amount):
         raise InvalidAmount(amount)
     return switched(web, gains, potential_of(web, [(node, amount)]))

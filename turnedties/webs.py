@@ -170,7 +170,11 @@ def is_walk(web, thing):
         return False
     if not all([is_step(web, entry) for entry in thing]):
         return False
-    ends = [step_ends(web, step) for step in thing]
+    return are_linked([step_ends(web, step) for step in thing])
+
+
+def are_linked(ends):
+    """Whether each step, given by the nodes where it begins and ends, begins where the one before ends."""
     return all([before[1] == after[0] for before, after in zip(ends, ends[1:])])
 
 
