@@ -167,3 +167,35 @@ class PlainBoard:
             raise Refused(InvalidModulus, modulus)
         self.modulus = modulus
         self.gains = [gain % modulus for gain in self.gains]
+
+
+class PlainCrew:
+    """A crew that carries out a potential, one unit at a time."""
+
+    def __init__(self, web, before, potential, hands):
+        self.web = web
+        self.gains, self.rest, self.log = list(before), list(potential), []
+        self.hands = copy.deepcopy(list(hands))
+
+    def residue(self, number):
+        return number % self.web.modulus() if self.web.modulus() else number
+
+    def step(self, hand):
+        """The node and the amount of the hand's next switch, None if it has nothing left to do."""
+        waiting = [node for node in self.hands[hand] if self.rest[node] != 0]
+        if not waiting:
+            return None
+        node, modulus = waiting[0], self.web.modulus()
+        is_up = 2 * self.rest[node] <= modulus if modulus else self.rest[node] > 0
+        amount = 1 if is_up else -1
+        self.rest[node] = self.residue(self.rest[node] - amount)
+        for number, (tail, head) in enumerate(self.web.edges()):
+            change = amount * ((tail == node) - (head == node))
+            self.gains[number] = self.residue(self.gains[number] + change)
+        self.log.append((hand, node, amount))
+        return node, amount
+
+    def left(self):
+        """The sum of the sizes of the rest."""
+        modulus = self.web.modulus()
+        return sum(min(value, modulus - value) if modulus else abs(value) for value in self.rest)

@@ -1,5 +1,6 @@
 """The operations of a board one by one, and undoing them: point [23]."""
 
+import copy
 import inspect
 import unittest
 
@@ -25,8 +26,8 @@ def ring_board(modulus=6, fixed=()):
 
 
 def state_of(board):
-    """All that a board tells of itself."""
-    return board.web(), board.gains(), board.fixed(), board.log(), len(board)
+    """All that a board tells of itself, copied."""
+    return copy.deepcopy((board.web(), board.gains(), board.fixed(), board.log(), len(board)))
 
 
 def check_refused(case, board, error, value, action):

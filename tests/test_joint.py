@@ -292,6 +292,8 @@ class IsTransformAll(unittest.TestCase):
         webs, befores, afters = two_webs(), [[0], [0, 0]], [[1], [2, 1]]
         for thing in (("cycle", [(1, 1, 1)]), ("cycle", [(1, 1, -1)]), ("fixed", [(0, 0, 1), (1, 0, -1)])):
             self.assertIs(True, is_transform_all(webs, befores, afters, thing, fixed=[0, 2]))
+            for word in ("", "walk", "Fixed", "cycles", "joint", None, b"fixed", Hostile(), Agreeing()):
+                self.assertIs(False, is_transform_all(webs, befores, afters, (word, thing[1]), fixed=[0, 2]))
         self.assertIs(False, is_transform_all(webs, befores, afters, ("fixed", [(0, 0, 1), (1, 0, -1)]), fixed=[0]))
         self.assertIs(False, is_transform_all(webs, befores, afters, ("cycle", [(0, 0, 1), (0, 0, -1)]), fixed=[0, 2]))
 

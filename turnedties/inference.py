@@ -52,12 +52,17 @@ def fewest_hands(web, before, after, hands):
 def any_potential(web, before, after, hands):
     """A potential that leads from before to after, whoever switched, None if there is none."""
     check_change(web, before, after)
-    if not is_hands(web, hands):
-        raise InvalidHands(hands)
+    check_hands(web, hands)
     result = transform(web, before, after)
     if result[0] != "potential":
         return None
     return result[1]
+
+
+def check_hands(web, hands):
+    """Raise InvalidHands unless hands are hands of the web."""
+    if not is_hands(web, hands):
+        raise InvalidHands(hands)
 
 
 def is_hands(web, thing):
